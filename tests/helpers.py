@@ -1,0 +1,112 @@
+"""What the tests share: calls in both ways, wrong values, and reckoning from the words of the document."""
+import copy
+import inspect
+import unittest
+from fractions import Fraction
+
+HUGE = 10 ** 99 + 7
+
+# Values that are no integers, but often look like one; no tuple among them is a number, a product or a beginning.
+NO_INTEGERS = (
+    True, False, None, "", "1", "-4", "abc ~\n", (1,), [], [1], [1, 2], {}, {1: 2}, {"n": [1, (2, {})]},
+    ((1,),), [[[]]], (True, 1), ("1", 2), [(1, (1,))], (((((((((((1,),),),),),),),),),),), tuple([0] * 9), "9" * 2000,
+)
+
+NO_SIGNS = NO_INTEGERS + (
+    0, -1, 2, -2, 3, 4, 6, 7, 9, -9, 16, -12, -16, 18, 20, 25, 32, -32, 36, 45, 48, -27, 400, -400, 401, -403, 404, -404,
+    408, 1001, -100003, HUGE, -HUGE, (1, 1), (5,), "5",
+)
+
+NO_COUNTS = NO_INTEGERS + (0, -1, 401, -400, HUGE, -HUGE, (1, 1))
+
+NO_LEVELS = NO_COUNTS
+
+
+class CallCase(unittest.TestCase):
+    """Checks each call by position and by name, and that no argument is changed."""
+
+    def calls(self, function, args):
+        """The same call in both ways, as calls without arguments."""
+        names = list(inspect.signature(function).parameters)
+        self.assertEqual(len(names), len(args))
+        named = dict(zip(names, args))
+        return (lambda: function(*args), lambda: function(**named))
+
+    def gives(self, expected, function, *args):
+        kept = copy.deepcopy(args)
+        for call in self.calls(function, args):
+            got = call()
+            # repr tells True from 1, and a list from a tuple, at every depth.
+            self.assertEqual(repr(got), repr(expected), (function.__name__, args))
+        self.assertEqual(repr(args), repr(kept))
+
+    def refuses(self, error, told, function, *args):
+        """The call raises just this error, with these attributes, which are the very values."""
+        kept = repr(args)
+        for call in self.calls(function, args):
+            with self.assertRaises(error, msg=(function.__name__, args)) as caught:
+                call()
+            self.assertIs(caught.exception.__class__, error, (function.__name__, args))
+            self.assertEqual(list(vars(caught.exception)), list(told))
+            for name, thing in told.items():
+                self.assertEqual(repr(getattr(caught.exception, name)), repr(thing))
+        self.assertEqual(repr(args), kept)
+
+    def refuses_thing(self, error, thing, function, *args):
+        self.refuses(error, {"thing": thing}, function, *args)
+
+
+def is_square(n):
+    """By trying."""
+    return any(x * x == n for x in range(n + 1))
+
+
+def has_square_divisor(m):
+    return any(m % (x * x) == 0 for x in range(2, abs(m) + 1) if x * x <= abs(m))
+
+
+def told_sign(thing):
+    """Point 1.2, word by word, for an integer."""
+    if thing == 0 or abs(thing) > 400:
+        return False
+    if thing == 1:
+        return True
+    if thing % 4 == 1:
+        return not has_square_divisor(thing)
+    m = thing // 4
+    return thing % 4 == 0 and m % 4 in (2, 3) and not has_square_divisor(m)
+
+
+SIGNS = tuple([D for D in range(-400, 401) if told_sign(D)])
+
+
+def prime_divisors(n):
+    """With repeats, for n from 1 on."""
+    found, p = [], 2
+    while n > 1:
+        while n % p == 0:
+            found.append(p)
+            n //= p
+        p += 1
+    return found
+
+
+def told_value(D, n):
+    """Point 1.3, word by word: squares of remainders at primes, and products."""
+    if n == 0:
+        return 1 if D == 1 else 0
+    value = -1 if n < 0 and D < 0 else 1
+    for p in prime_divisors(abs(n)):
+        if p == 2:
+            value *= 0 if D % 2 == 0 else 1 if D % 8 == 1 else -1
+        elif D % p == 0:
+            value = 0
+        else:
+            value *= 1 if D % p in [x * x % p for x in range(p)] else -1
+    return value
+
+
+def pair(fraction):
+    """The number of a fraction, in lowest terms."""
+    fraction = Fraction(fraction)
+    return (fraction.numerator, fraction.denominator)
