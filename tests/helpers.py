@@ -3,6 +3,7 @@ import copy
 import inspect
 import unittest
 from fractions import Fraction
+from math import gcd, lcm
 
 HUGE = 10 ** 99 + 7
 
@@ -20,6 +21,27 @@ NO_SIGNS = NO_INTEGERS + (
 NO_COUNTS = NO_INTEGERS + (0, -1, 401, -400, HUGE, -HUGE, (1, 1))
 
 NO_LEVELS = NO_COUNTS
+
+NO_NUMBERS = NO_INTEGERS + (
+    0, 1, -7, HUGE, (), (1, 0), (1, -1), (0, 0), (1, 1, 1), [1, 2], (True, 2), (1, True), (False, True), (1, None),
+    ("1", "2"), ((1, 2), (1, 2)), ((1, 2),), (1, (2,)), "1/2", (None, 1), ([1], 2), (HUGE, -HUGE),
+)
+
+NO_BEGINNINGS = NO_INTEGERS + (
+    0, 1, HUGE, (), (1, 1), (1, ()), (0, (1,)), (-1, (1,)), (-HUGE, (1, 2)), (1, [1]), [1, (1,)], (True, (1,)),
+    (1, (True,)), (1, (1, 2, False)), (1, (1, None)), (1, (1, "2")), (1, (1,), 1), ((1,), 1), ((1, 2), 3), ((1, (1,)),),
+    (1, (0,) * 401), (1, ((1,),)), (1, ((1, 1), (2, 1))), (1, "11"), ("1", (1,)), (None, (1,)), (1, None),
+    (1, {0: 1}), {1: (1,)}, ((1, (1,)), (1, (1,))), (1, 1, 1), ([1], (1,)), (2, (1, [2], 3)), (1, (1, (2,))),
+)
+
+NO_PRODUCTS = NO_INTEGERS + (
+    0, 1, HUGE, (1, 1), ((1,),), ((0, 1),), ((-1, 1),), ((401, 1),), ((HUGE, 1),), ((1, 0),), ((1, 49),), ((1, -49),),
+    ((1, HUGE),), ((1, 1), (1, 2)), ((1, 1), (1, 1)), ((2, 1), (1, 1)), ((1, 1), (3, 1), (2, 1)), [(1, 1)], ([1, 1],),
+    ((1, 1), [2, 1]), ((1, 1, 1),), ((1, 1), (2,)), ((1, 1), 2), ((1, 1), None), ((True, 1),), ((1, True),),
+    ((1, False),), ((1, "1"),), (("1", 1),), ((None, 1),), ((1, None),), (((1,), 1),), ((1, (1,)),), {1: 1},
+    tuple([(d, 1) for d in range(1, 10)]), ((), ()), ((1, 1), ()), ("ab", "cd"), (((1, 1),),), ((1, 1), (2, 0)),
+    tuple([(d, 0) for d in range(1, 9)]), ((1, 24), (2, -24), (2, -24)), ({1: 1},),
+)
 
 
 class CallCase(unittest.TestCase):
@@ -110,3 +132,47 @@ def pair(fraction):
     """The number of a fraction, in lowest terms."""
     fraction = Fraction(fraction)
     return (fraction.numerator, fraction.denominator)
+
+
+def fractions_of(beginning):
+    """The terms of a beginning."""
+    return [Fraction(top, beginning[0]) for top in beginning[1]]
+
+
+def beginning_of(terms):
+    """The beginning of these fractions, in lowest terms."""
+    bottom = lcm(*[Fraction(term).denominator for term in terms])
+    return (bottom, tuple([int(term * bottom) for term in terms]))
+
+
+def is_lowest(beginning):
+    """Whether no integer above 1 divides the bottom and all tops."""
+    common = beginning[0]
+    for top in beginning[1]:
+        common = gcd(common, top)
+    return common == 1
+
+
+def multiplied_out(one, other):
+    """The product of two lists of terms, as far as both go."""
+    many = min(len(one), len(other))
+    terms = [0] * many
+    for i in range(many):
+        for j in range(many - i):
+            terms[i + j] += one[i] * other[j]
+    return terms
+
+
+def factors_out(pairs, many, signs=True):
+    """The terms of a product, factor by factor; without signs, how many choices there are."""
+    turn = -1 if signs else 1
+    terms = [1] + [0] * (many - 1)
+    for d, r in pairs:
+        for size in range(d, many, d):
+            for _ in range(abs(r)):
+                if r > 0:
+                    terms = [term + turn * (terms[n - size] if n >= size else 0) for n, term in enumerate(terms)]
+                else:
+                    for n in range(size, many):
+                        terms[n] += terms[n - size]
+    return terms

@@ -7,6 +7,21 @@ INTERFACE = {
     "integers": {"divisors": "n", "divisor_sum": "n k one other"},
     "signs": {"is_sign": "thing", "sign_at": "sign n", "sign_of": "m", "joined_sign": "one other"},
     "bernoulli": {"bernoulli": "k sign"},
+    "beginnings": {
+        "is_beginning": "thing", "term_at": "beginning n", "added": "one other", "multiplied": "one other",
+        "times": "beginning number", "power": "beginning k", "spread": "beginning d", "every": "beginning d",
+        "twisted": "beginning sign", "shifted": "beginning s", "first_apart": "one other",
+    },
+    "products": {
+        "is_product": "thing", "start_of": "product", "product_weight": "product", "product_terms": "product many",
+        "does_fit": "product level", "product_level": "product", "product_sign": "product",
+        "joined_product": "one other", "undone_product": "product", "turned_product": "product level",
+        "spread_product": "product t",
+    },
+    "choices": {"choices": "product n most", "choice_sum": "product n"},
+    "toldrows": {
+        "five_cornered": "many", "cubes": "many", "squares": "many", "turned_squares": "many", "triangles": "many",
+    },
 }
 
 
