@@ -3,10 +3,8 @@ from math import gcd
 
 
 def lowest_terms(top, bottom):
-    """The number that stands for top / bottom, in lowest terms; bottom may be below 0, but is not 0."""
+    """The number that stands for top / bottom, in lowest terms, for a bottom from 1 on."""
     common = gcd(top, bottom)
-    if bottom < 0:
-        common = -common
     return (top // common, bottom // common)
 
 
