@@ -2,7 +2,7 @@
 from math import gcd
 
 from firstterms.checks import check_between, check_from, check_integer, check_number, is_from, is_integer
-from firstterms.errors import BadBeginning, BadNumber, DividedByZero
+from firstterms.errors import BadBeginning, DividedByZero
 from firstterms.numberpairs import lowest_terms, raised
 from firstterms.signs import check_sign, value_at
 

@@ -1,5 +1,5 @@
-"""Which values are integers and numbers, and the errors for those that are not."""
-from firstterms.errors import BadCount, BadLevel, BadNumber
+"""Which values are integers, numbers, levels and divisors, and the errors for those that are not."""
+from firstterms.errors import BadCount, BadDivisor, BadLevel, BadNumber
 
 
 def is_integer(thing):
@@ -61,3 +61,14 @@ def check_level(level):
     """Raises BadLevel if a value is no level."""
     if not is_between(level, 1, 400):
         raise BadLevel(level)
+
+
+def is_divisor(thing, level):
+    """Whether any value is a divisor of a level."""
+    return is_from(thing, 1) and level % thing == 0
+
+
+def check_divisor(thing, level):
+    """Raises BadDivisor if a value is no divisor of a level."""
+    if not is_divisor(thing, level):
+        raise BadDivisor(thing)

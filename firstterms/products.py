@@ -1,9 +1,9 @@
 """Endless products, their terms, levels and signs, and products made of products."""
-from math import gcd, lcm
+from math import gcd
 
 from firstterms.checks import check_count, check_from, check_level, is_between, is_pair_of_integers
 from firstterms.errors import BadProduct, NotWhole, OtherLevel, TooMany
-from firstterms.numberpairs import lowest_terms
+from firstterms.numberpairs import common_multiple, lowest_terms
 from firstterms.signs import any_sign_of
 
 
@@ -46,13 +46,18 @@ def product_terms(product, many):
     """The beginning of so many terms of a product."""
     check_product(product)
     check_count(many)
+    return (1, tuple(terms_below(product, many)))
+
+
+def terms_below(product, many):
+    """The terms of a product at all n below many, for callers that have checked the product; many is from 1 on."""
     slopes = slopes_of(product, many)
     terms = [1]
     # The product's slope is the product times the slope of its logarithm; this tells term by term.
     for n in range(1, many):
         total = sum([slopes[i] * terms[n - i] for i in range(1, n + 1)])
         terms.append(-total // n)
-    return (1, tuple(terms))
+    return terms
 
 
 def slopes_of(product, many):
@@ -89,9 +94,7 @@ def product_level(product):
     check_product(product)
     if not is_whole(product):
         return None
-    common = 1
-    for d, r in product:
-        common = lcm(common, d)
+    common = common_multiple([d for d, r in product])
     turned = sum([common // d * r for d, r in product])
     return common * (24 // gcd(24, turned))
 

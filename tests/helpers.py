@@ -176,3 +176,51 @@ def factors_out(pairs, many, signs=True):
                     for n in range(size, many):
                         terms[n] += terms[n - size]
     return terms
+
+
+def spoiled(thing):
+    """Values near a value: with parts of other kinds, and with parts left out, repeated, exchanged or changed."""
+    if isinstance(thing, tuple):
+        for other in (list(thing), (thing,), thing + (None,), thing + ((),), None, dict(enumerate(thing))):
+            yield other
+        for i, item in enumerate(thing):
+            yield thing[:i] + thing[i + 1:]
+            yield thing[:i] + (item,) + thing[i:]
+            if i:
+                yield thing[:i - 1] + (item, thing[i - 1]) + thing[i + 1:]
+            for other in spoiled(item):
+                yield thing[:i] + (other,) + thing[i + 1:]
+    elif isinstance(thing, int):
+        for other in (True, False, None, str(thing), [thing], (thing,), {}, 0, 1, -thing, thing + 1, thing - 1, 2 * thing,
+                      401, HUGE, -HUGE):
+            yield other
+    else:
+        for other in ("", thing + " ", thing.upper(), thing[1:], [thing], (thing,), 0, None, "product", "sum", "form"):
+            yield other
+
+
+def is_int(thing):
+    return type(thing) is int
+
+
+def expanded(rows):
+    """The determinant of a table, expanded along its rows."""
+    found = {0: 1}
+    for k, row in enumerate(rows):
+        longer = {}
+        for columns, part in found.items():
+            for j, entry in enumerate(row):
+                if not columns & (1 << j) and entry != 0:
+                    turns = bin(columns >> j).count("1")
+                    key = columns | (1 << j)
+                    longer[key] = longer.get(key, 0) + (-1) ** turns * entry * part
+        found = longer
+    return found.get((1 << len(rows)) - 1, 0)
+
+
+def inverse_of(rows):
+    """The inverse of a table, by the determinants of its parts."""
+    m = len(rows)
+    size = expanded(rows)
+    parts = [[[row[:j] + row[j + 1:] for k, row in enumerate(rows) if k != i] for j in range(m)] for i in range(m)]
+    return [[Fraction((-1) ** (i + j) * expanded(parts[j][i]), size) for j in range(m)] for i in range(m)]

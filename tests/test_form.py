@@ -117,6 +117,14 @@ class FormTest(unittest.TestCase):
             imported = [name.name for node in tree.body if isinstance(node, ast.ImportFrom) for name in node.names]
             self.assertEqual([name for name in bound_names(tree) if name in imported], [], path)
 
+    def test_imports_are_used(self):
+        for path, tree in trees():
+            read = {node.id for node in ast.walk(tree) if isinstance(node, ast.Name)}
+            for node in tree.body:
+                if isinstance(node, ast.ImportFrom):
+                    for name in node.names:
+                        self.assertIn(name.name, read, path)
+
     def test_calls(self):
         for path, tree in trees():
             known = set(bound_names(tree)) | BUILTINS

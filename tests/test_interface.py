@@ -22,6 +22,20 @@ INTERFACE = {
     "toldrows": {
         "five_cornered": "many", "cubes": "many", "squares": "many", "turned_squares": "many", "triangles": "many",
     },
+    "edges": {"index_of": "level", "edges_of": "level"},
+    "orders": {
+        "order_at": "level product c", "orders_of": "level product", "judge_poles": "level product",
+        "poles_hold": "level product thing", "by_orders": "level orders",
+    },
+    "divisorsums": {
+        "is_divisor_piece": "thing", "sum_terms": "divisor_piece many", "sum_level": "divisor_piece",
+        "sum_sign": "divisor_piece", "sum_first": "divisor_piece",
+    },
+    "forms": {
+        "is_form": "thing", "value_at": "form x", "determinant_of": "form", "form_level": "form", "form_sign": "form",
+        "partner_form": "form", "beside": "one other", "times_form": "form t", "squares_form": "m",
+        "changed_form": "form table",
+    },
 }
 
 
