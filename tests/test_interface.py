@@ -36,6 +36,20 @@ INTERFACE = {
         "partner_form": "form", "beside": "one other", "times_form": "form t", "squares_form": "m",
         "changed_form": "form table",
     },
+    "ways": {"ways": "form n", "all_ways": "form n most", "form_terms": "form many"},
+    "pieces": {
+        "is_piece": "thing", "piece_weight": "piece", "piece_level": "piece", "piece_sign": "piece",
+        "piece_order": "piece level c",
+    },
+    "blends": {
+        "is_blend": "thing", "blend_weight": "blend", "blend_level": "blend", "blend_sign": "blend", "lowest": "blend",
+        "is_smooth": "blend", "blend_terms": "blend first many", "scaled": "blend number",
+        "added_blends": "one other", "spread_blend": "blend t",
+    },
+    "equal": {
+        "place_of": "blend", "place_of_two": "one other", "judge_nought": "blend", "nought_holds": "blend thing",
+        "judge_equal": "one other", "equal_holds": "one other thing",
+    },
 }
 
 
