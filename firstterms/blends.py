@@ -4,7 +4,7 @@ from math import gcd
 from firstterms.beginnings import lowered
 from firstterms.checks import check_count, check_from, check_integer, is_number
 from firstterms.divisorsums import is_plain
-from firstterms.errors import BadBlend, BadNumber, OtherSign, OtherWeight, TooMany
+from firstterms.errors import BadBlend, BadNumber, HasPole, OtherSign, OtherWeight, TooMany
 from firstterms.integers import divisors
 from firstterms.numberpairs import common_multiple, number_product, number_sum
 from firstterms.pieces import piece_facts, piece_level, piece_order_top, piece_row, piece_start
@@ -83,13 +83,29 @@ def lowest(blend):
 
 def lowest_start(blend):
     """The least of 0 and of the starts of the pieces, for callers that have checked the blend."""
-    return min([0] + [piece_start(piece) for piece, number in blend])
+    return min(0, first_start(blend))
+
+
+def first_start(blend):
+    """An integer ahead of which all terms of a blend are 0; it may be above 0."""
+    return min([piece_start(piece) for piece, number in blend])
 
 
 def is_smooth(blend):
     """Whether no piece of a blend has a pole."""
     checked_blend(blend)
+    return has_no_pole(blend)
+
+
+def has_no_pole(blend):
+    """Whether no piece of a blend has a pole, for callers that have checked the blend."""
     return all([is_smooth_piece(piece) for piece, number in blend])
+
+
+def check_smooth(blend):
+    """Raises HasPole if a blend is not smooth, for callers that have checked the blend."""
+    if not has_no_pole(blend):
+        raise HasPole(blend)
 
 
 def is_smooth_piece(piece):

@@ -1,5 +1,5 @@
 """Which values are integers, numbers, levels and divisors, and the errors for those that are not."""
-from firstterms.errors import BadCount, BadDivisor, BadLevel, BadNumber
+from firstterms.errors import BadCount, BadDivisor, BadLevel, BadNumber, BadPrime
 
 
 def is_integer(thing):
@@ -17,9 +17,14 @@ def is_between(thing, least, most):
     return is_integer(thing) and least <= thing <= most
 
 
+def is_tuple_of_integers(thing, many):
+    """Whether any value is a tuple of so many integers."""
+    return isinstance(thing, tuple) and len(thing) == many and all([is_integer(item) for item in thing])
+
+
 def is_pair_of_integers(thing):
     """Whether any value is a tuple of two integers."""
-    return isinstance(thing, tuple) and len(thing) == 2 and is_integer(thing[0]) and is_integer(thing[1])
+    return is_tuple_of_integers(thing, 2)
 
 
 def is_number(thing):
@@ -61,6 +66,17 @@ def check_level(level):
     """Raises BadLevel if a value is no level."""
     if not is_between(level, 1, 400):
         raise BadLevel(level)
+
+
+def is_prime(thing):
+    """Whether any value is a prime number below 100."""
+    return is_between(thing, 2, 99) and all([thing == p or thing % p != 0 for p in (2, 3, 5, 7)])
+
+
+def check_prime(prime):
+    """Raises BadPrime if a value is no prime number below 100."""
+    if not is_prime(prime):
+        raise BadPrime(prime)
 
 
 def is_divisor(thing, level):

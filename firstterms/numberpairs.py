@@ -10,6 +10,11 @@ def lowest_terms(top, bottom):
     return (top // common, bottom // common)
 
 
+def quotient(top, bottom):
+    """The number that stands for top / bottom, in lowest terms, for a bottom that is not 0."""
+    return lowest_terms(top, bottom) if bottom > 0 else lowest_terms(-top, -bottom)
+
+
 def number_sum(one, other):
     """The sum of two numbers."""
     return lowest_terms(one[0] * other[1] + other[0] * one[1], one[1] * other[1])

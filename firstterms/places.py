@@ -18,3 +18,8 @@ def told_place(weight, level, tops):
         if c < level:
             total = number_sum(total, (-many * top, order_bottom(level, c)))
     return total[0] // total[1]
+
+
+def smooth_place(weight, level):
+    """A place that is enough for all smooth blends of a weight whose levels divide a level."""
+    return weight * index_of(level) // 12

@@ -50,6 +50,15 @@ INTERFACE = {
         "place_of": "blend", "place_of_two": "one other", "judge_nought": "blend", "nought_holds": "blend thing",
         "judge_equal": "one other", "equal_holds": "one other thing",
     },
+    "rowproducts": {
+        "place_of_three": "one other due", "judge_times": "one other due", "times_hold": "one other due thing",
+    },
+    "within": {"judge_within": "blend blends", "within_holds": "blend blends thing"},
+    "bases": {
+        "genus_of": "level", "dimension": "level weight", "inner_dimension": "level weight",
+        "judge_base": "level weight blends", "base_holds": "level weight blends thing",
+    },
+    "steps": {"step_terms": "blend prime many", "judge_step": "blend prime", "step_holds": "blend prime thing"},
 }
 
 
