@@ -44,7 +44,7 @@ BASES = (
 
 def told_numbers(level):
     """The genus, how many edges, e and h of point 8.2, counted out."""
-    around = [sum([1 for x in range(level) if (x * x + y * x + 1) // level * level == x * x + y * x + 1]) for y in (0, 1)]
+    around = [len([x for x in range(level) if divmod(x * x + y * x + 1, level)[1] == 0]) for y in (0, 1)]
     edges = sum([sum([1 for x in range(1, g + 1) if Fraction(x, g).denominator == g]) for g in widths_of(level)])
     genus = 1 + Fraction(told_index(level), 12) - Fraction(around[0], 4) - Fraction(around[1], 3) - Fraction(edges, 2)
     return genus, edges, around[0], around[1]
@@ -108,7 +108,8 @@ class DimensionTest(CallCase):
 
     def test_level_one(self):
         self.assertEqual([dimension(1, weight) for weight in range(2, 25, 2)], [0, 1, 1, 1, 1, 2, 1, 2, 2, 2, 2, 3])
-        self.assertEqual([inner_dimension(1, weight) for weight in range(2, 25, 2)], [0, 0, 0, 0, 0, 1, 0, 1, 1, 1, 1, 2])
+        self.assertEqual([inner_dimension(1, weight) for weight in range(2, 25, 2)],
+                         [0, 0, 0, 0, 0, 1, 0, 1, 1, 1, 1, 2])
 
     def test_inner_products(self):
         """Of more products with orders above 0 than the inner dimension one is a sum of the others."""
@@ -146,7 +147,8 @@ class BaseTest(CallCase):
         return told
 
     def test_examples(self):
-        self.assertEqual([judge_base(4, 4, sums(4, 1, 2, 4)), judge_base(1, 12, (DELTA,)), judge_base(2, 4, sums(4, 1))],
+        self.assertEqual([judge_base(4, 4, sums(4, 1, 2, 4)), judge_base(1, 12, (DELTA,)),
+                          judge_base(2, 4, sums(4, 1))],
                          [("base", (0, 1, 2)), ("few", 2), ("few", 2)])
 
     def test_known_bases(self):
@@ -197,7 +199,8 @@ class BaseTest(CallCase):
                     self.gives(True, base_holds, wide, weight, blends, ("relation", numbers))
                     self.gives(False, base_holds, wide, weight, blends, ("relation", numbers[::-1]) if numbers[0] > 1
                                else ("relation", (1, 1)))
-        more = (FOUR, blend((form(D4), 1)), sums(2, 2)[0], sums(2, 4)[0], blend((product((1, -8), (2, 20), (4, -8)), 1)))
+        more = (FOUR, blend((form(D4), 1)), sums(2, 2)[0], sums(2, 4)[0],
+                blend((product((1, -8), (2, 20), (4, -8)), 1)))
         word, numbers = self.check_certificate(4, 2, more)
         self.check_far(more, numbers)
 
@@ -215,7 +218,8 @@ class BaseTest(CallCase):
         self.assertEqual(self.check_certificate(4, 2, (FOUR, nought))[0], "relation")
         self.assertEqual(self.check_certificate(4, 2, (nought,))[0], "few")
         self.assertEqual(self.check_certificate(2, 4, sums(4, 1) * 2)[0], "relation")
-        for numbers, expected in (((1, 0), True), ((-HUGE, 0), True), ((0, 0), False), ((1, 1), False), ((0, 1), False)):
+        for numbers, expected in (((1, 0), True), ((-HUGE, 0), True), ((0, 0), False), ((1, 1), False),
+                                  ((0, 1), False)):
             self.gives(expected, base_holds, 4, 2, (nought, FOUR), ("relation", numbers))
 
     def test_all_places(self):
@@ -239,9 +243,11 @@ class BaseTest(CallCase):
             told = self.check_certificate(level, weight, blends)
             size = int(told_dimension(level, weight))
             rights = 0
-            more = [("few", size), ("few", size + 1), ("few", size - 1), ("few", len(blends)), ("few", True), ("few", (size,)),
+            more = [("few", size), ("few", size + 1), ("few", size - 1), ("few", len(blends)), ("few", True),
+                    ("few", (size,)),
                     ("relation", (0,) * len(blends)), ("relation", (1,) * len(blends)), ("relation", ()), ("base", ()),
-                    ("base", tuple(range(size))), ("relation", None), ("base", None), ("few", None), ("base", tuple(range(len(blends)))),
+                    ("base", tuple(range(size))), ("relation", None), ("base", None), ("few", None),
+                    ("base", tuple(range(len(blends)))),
                     ("Base", told[1]), ("relation", told[1]), ("base", told[1]), ("few", told[1]), (), None, told[1]]
             for thing in list(spoiled(told)) + more + [told]:
                 expected = told_holds(level, weight, blends, thing)
@@ -316,9 +322,10 @@ class ErrorTest(CallCase):
                 self.refused(error, one, 8, 4, put(one, other))
                 self.refused(error, other, 8, 4, put(other, one))
             for order in ((0, 1, 2, 3), (3, 2, 1, 0), (1, 3, 0, 2)):
-                some = [((weight, OtherWeight), (sign, OtherSign), (level, OtherLevel), (pole, HasPole))[k] for k in order]
+                wrong = (weight, OtherWeight), (sign, OtherSign), (level, OtherLevel), (pole, HasPole)
+                some = [wrong[k] for k in order]
                 while some:
-                    told = sorted(some, key=lambda pair: (OtherWeight, OtherSign, OtherLevel, HasPole).index(pair[1]))[0]
+                    told = min(some, key=wrong.index)
                     self.refused(told[1], told[0], 8, 4, put(*[one for one, error in some]))
                     some.remove(told)
 

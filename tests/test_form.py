@@ -127,6 +127,8 @@ class FormTest(unittest.TestCase):
                         self.assertIn(name.name, read, path)
 
     def test_calls(self):
+        own = {below.name for path, tree in trees() for node in tree.body if isinstance(node, ast.ClassDef)
+               for below in node.body if isinstance(below, ast.FunctionDef)}
         for path, tree in trees():
             known = set(bound_names(tree)) | BUILTINS
             for node in tree.body:
@@ -137,7 +139,23 @@ class FormTest(unittest.TestCase):
                     self.assertIn(node.func.id, known, (path, node.lineno))
                 elif isinstance(node, ast.Call):
                     self.assertIsInstance(node.func, ast.Attribute, (path, node.lineno))
-                    self.assertIn(node.func.attr, METHODS, (path, node.lineno))
+                    self.assertIn(node.func.attr, METHODS | own, (path, node.lineno))
+
+    def test_classes(self):
+        """No name is a method and an attribute of one class, and no method is of a builtin value's or has two underscores."""
+        for path, tree in trees():
+            for node in tree.body:
+                if isinstance(node, ast.ClassDef):
+                    methods = [below.name for below in node.body if isinstance(below, ast.FunctionDef)]
+                    attributes = {below.attr for below in ast.walk(node)
+                                  if isinstance(below, ast.Attribute) and isinstance(below.ctx, ast.Store)}
+                    self.assertEqual(len(methods), len(set(methods)), (path, node.name))
+                    self.assertEqual(set(methods) & attributes, set(), (path, node.name))
+                    for name in set(methods) | attributes:
+                        for kind in (str, int, list, dict, set, bytes, tuple):
+                            self.assertFalse(hasattr(kind, name) and name != "__init__", (path, name))
+                        self.assertTrue(name == "__init__" or not name.startswith("_"), (path, name))
+                    self.assertEqual([base.id for base in node.bases if isinstance(base, ast.Name)][1:], [])
 
     def test_comprehensions_stand_in_functions(self):
         kinds = (ast.ListComp, ast.SetComp, ast.DictComp, ast.GeneratorExp)

@@ -3,6 +3,8 @@ import importlib
 import inspect
 import unittest
 
+from firstterms.desks import Desk
+
 INTERFACE = {
     "integers": {"divisors": "n", "divisor_sum": "n k one other"},
     "signs": {"is_sign": "thing", "sign_at": "sign n", "sign_of": "m", "joined_sign": "one other"},
@@ -59,6 +61,19 @@ INTERFACE = {
         "judge_base": "level weight blends", "base_holds": "level weight blends thing",
     },
     "steps": {"step_terms": "blend prime many", "judge_step": "blend prime", "step_holds": "blend prime thing"},
+    "stepping": {"judge_stepping": "blend", "stepping_holds": "blend thing", "far_term": "blend n"},
+    "remainders": {
+        "does_keep": "blend modulus", "remainder_at": "blend n modulus", "judge_divisible": "blend stride modulus",
+        "divisible_holds": "blend stride modulus thing", "judge_alike": "one other modulus",
+        "alike_holds": "one other modulus thing",
+    },
+    "texts": {"blend_text": "blend", "read_blend": "text"},
+    "desks": {"read_desk": "text"},
+}
+METHODS = {
+    "blends": "", "claims": "", "text": "", "undoable": "", "redoable": "", "is_same": "thing", "copied": "",
+    "put": "name blend", "blend_named": "name", "change": "name blend", "drop": "name", "claim": "words",
+    "release": "words", "undo": "", "redo": "",
 }
 
 
@@ -70,8 +85,25 @@ class InterfaceTest(unittest.TestCase):
                 function = getattr(module, name)
                 self.assertTrue(inspect.isfunction(function), name)
                 self.assertEqual(function.__module__, "firstterms." + file, name)
-                parameters = inspect.signature(function).parameters
-                self.assertEqual(list(parameters), arguments.split(), name)
-                for parameter in parameters.values():
-                    self.assertEqual(parameter.kind, parameter.POSITIONAL_OR_KEYWORD, name)
-                    self.assertIs(parameter.default, parameter.empty, name)
+                self.check_parameters(function, arguments.split())
+
+    def check_parameters(self, function, names):
+        parameters = inspect.signature(function).parameters
+        self.assertEqual(list(parameters), names, function)
+        for parameter in parameters.values():
+            self.assertEqual(parameter.kind, parameter.POSITIONAL_OR_KEYWORD, function)
+            self.assertIs(parameter.default, parameter.empty, function)
+
+    def test_methods_of_desks(self):
+        self.assertEqual(Desk.__module__, "firstterms.desks")
+        self.assertEqual(Desk.__bases__, (object,))
+        self.check_parameters(Desk, [])
+        for name, arguments in METHODS.items():
+            method = vars(Desk)[name]
+            self.assertTrue(inspect.isfunction(method), name)
+            self.check_parameters(method, ["self"] + arguments.split())
+
+    def test_all_of_the_document(self):
+        """How many functions the document lists under each heading."""
+        self.assertEqual([len(functions) for functions in INTERFACE.values()],
+                         [2, 4, 1, 11, 11, 2, 5, 2, 5, 5, 10, 3, 5, 10, 6, 3, 2, 5, 3, 3, 6, 2, 1])

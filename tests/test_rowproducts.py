@@ -23,9 +23,9 @@ KNOWN = [
     (blend((total(6, 1, 1), -504)), blend((total(8, 1, 1), 480)), blend((total(14, 1, 1), -24))),
     (blend((form(SQUARES[0]), 1)), blend((form(SQUARES[0]), 1)), FOUR),
     (blend((form(SQUARES[0]), 1)), blend((total(1, -4, 1), 4)), blend((total(2, 1, 1, 4), 8))),
-    (blend((form(SQUARES[0]), 1)), FOUR, blend((form(SQUARES[2]), 1))),
-    (FOUR, FOUR, blend((form(SQUARES[3]), 1))),
-    (FOUR, blend((total(2, 1, 1, 4), 8)), blend((total(4, 1, 1), 16), (total(4, 1, 1, 2), -32), (total(4, 1, 1, 4), 256))),
+    (blend((form(SQUARES[0]), 1)), FOUR, blend((form(SQUARES[2]), 1))), (FOUR, FOUR, blend((form(SQUARES[3]), 1))),
+    (FOUR, blend((total(2, 1, 1, 4), 8)), blend((total(4, 1, 1), 16), (total(4, 1, 1, 2), -32),
+                                                (total(4, 1, 1, 4), 256))),
     (blend((form(THREE), (1, 2))), blend((total(1, -3, 1), (4, 1))), blend((form(beside(THREE, THREE)), (1, 3)))),
     (blend((form(A4), 1)), blend((form(A4), 1)), blend((form(beside(A4, A4)), 1))),
     (blend((form(D4), 1)), blend((form(D4), (2, 3))), blend((form(beside(D4, D4)), (2, 3)))),
@@ -123,18 +123,23 @@ class PlaceTest(CallCase):
         self.gives(0, place_of_three, DELTA, blend((product((1, -24)), 1)), blend((product(), 1)))
         self.gives(2, place_of_three, DELTA, DELTA, blend((product((1, 48)), 1)))
         self.gives(1, place_of_three, DELTA, EISEN, blend((total(16, 1, 1), 1)))
-        self.gives(60, place_of_three, blend((product((30, 48)), 1)), blend((product(), 1)), blend((product((30, 48)), 1)))
-        self.gives(-60, place_of_three, blend((product((30, -48)), 1)), blend((product(), 1)), blend((product((30, -48)), 1)))
+        self.gives(60, place_of_three, blend((product((30, 48)), 1)), blend((product(), 1)),
+                   blend((product((30, 48)), 1)))
+        self.gives(-60, place_of_three, blend((product((30, -48)), 1)), blend((product(), 1)),
+                   blend((product((30, -48)), 1)))
         # The index of 400 is 720.
         self.gives(240, place_of_three, blend((total(2, 1, 1, 400), 1)), FOUR, blend((total(4, 1, 1, 16), 1)))
 
     def test_levels(self):
         for t, other_t, due_t in ((400, 400, 400), (16, 25, 400), (1, 1, 400), (1, 399, 1), (16, 25, 1), (397, 1, 397)):
-            triple = [blend((total(4, 1, 1, t), 1)), blend((total(4, 1, 1, other_t), 1)), blend((total(8, 1, 1, due_t), 1))]
+            triple = [blend((total(4, 1, 1, t), 1)), blend((total(4, 1, 1, other_t), 1)),
+                      blend((total(8, 1, 1, due_t), 1))]
             self.gives(told_three(*triple)[2], place_of_three, *triple)
-        for t, other_t, due_t, level in ((401 // 7, 31, 1, 57 * 31), (17, 24, 1, 408), (1, 17, 24, 408), (17, 1, 24, 408),
+        for t, other_t, due_t, level in ((57, 31, 1, 57 * 31), (17, 24, 1, 408), (1, 17, 24, 408),
+                                         (17, 1, 24, 408),
                                          (3, 1, 134, 402), (2, 3, 67, 402), (400, 399, 397, 400 * 399 * 397)):
-            triple = [blend((total(4, 1, 1, t), 1)), blend((total(4, 1, 1, other_t), 1)), blend((total(8, 1, 1, due_t), 1))]
+            triple = [blend((total(4, 1, 1, t), 1)), blend((total(4, 1, 1, other_t), 1)),
+                      blend((total(8, 1, 1, due_t), 1))]
             self.refuses_thing(BadLevel, level, place_of_three, *triple)
             self.refuses_thing(BadLevel, level, judge_times, *triple)
             self.refuses_thing(BadLevel, level, times_hold, *triple, ("equal", 0))
@@ -151,7 +156,8 @@ class TimesTest(CallCase):
             place = told_three(one, other, due)[2]
             self.gives(("equal", place), judge_times, one, other, due)
             self.gives(("equal", place), judge_times, other, one, due)
-            for thing, expected in ((("equal", place), True), (("equal", place + 1), False), (("equal", place - 1), False),
+            for thing, expected in ((("equal", place), True), (("equal", place + 1), False),
+                                    (("equal", place - 1), False),
                                     (("apart", place), False), (("apart", 0), False), (("nought", place), False)):
                 self.gives(expected, times_hold, one, other, due, thing)
 
@@ -238,7 +244,8 @@ class TimesTest(CallCase):
 
     def test_all_certificates_of_a_few(self):
         for one, other, due in (KNOWN[0], KNOWN[7], KNOWN[15], (EISEN, EISEN, blend((total(8, 1, 1), 240))),
-                                (FOUR, FOUR, blend((total(4, 1, 1, 2), 1))), (DELTA, DELTA, blend((product((1, 24), (2, 24)), 1))),
+                                (FOUR, FOUR, blend((total(4, 1, 1, 2), 1))),
+                                (DELTA, DELTA, blend((product((1, 24), (2, 24)), 1))),
                                 (POLE, DELTA, DELTA), (POLE, POLE, POLE)):
             place = told_three(one, other, due)[2]
             apart = told_apart(one, other, due, place)
@@ -282,7 +289,8 @@ class ErrorTest(CallCase):
             self.refuses_thing(OtherSign, EISEN, function, five, FOUR, EISEN, *rest)
             self.refuses_thing(OtherSign, five, function, three, three, five, *rest)
             wrong = blend((total(2, 5, 1), 1))
-            self.refuses_thing(OtherSign, wrong, function, blend((total(1, -4, 1), 1)), blend((total(1, -4, 1), 1)), wrong, *rest)
+            self.refuses_thing(OtherSign, wrong, function, blend((total(1, -4, 1), 1)), blend((total(1, -4, 1), 1)),
+                               wrong, *rest)
             # The weight is asked for ahead of the sign, and both ahead of the level.
             far = blend((total(5, -4, 1, 99), 1))
             self.refuses_thing(OtherWeight, far, function, FOUR, blend((total(2, 1, 1, 17), 1)), far, *rest)

@@ -8,7 +8,7 @@ from firstterms.errors import BadBlend, BadBlends, BadLevel, HasPole, OtherSign,
 from firstterms.within import judge_within, within_holds
 from tests.helpers import HUGE, CallCase, is_int, pair, spoiled
 from tests.pool import (
-    POOL, blend, form, product, told_blend_facts, told_index, told_number, told_row, total)
+    POOL, blend, form, product, told_blend_facts, told_facts, told_index, told_number, told_row, total)
 from tests.test_blends import DELTA, EISEN, FOUR, NO_BLENDS, ONE, POLE, is_told_smooth
 from tests.test_equal import EQUAL
 from tests.test_forms import SQUARES, THREE
@@ -19,16 +19,17 @@ TWELVE = blend((total(12, 1, 1), 1))
 NOUGHT = [added_blends(one, scaled(other, (-1, 1))) for one, other in EQUAL]
 # Tuples of blends of one weight and one sign, all smooth.
 TUPLES = (
-    SUMS, SUMS[:1], (TWELVE,), (TWELVE, DELTA), (DELTA, TWELVE, blend((product((2, 24)), 1)), blend((total(12, 1, 1, 2), 1))),
+    SUMS, SUMS[:1], (TWELVE,), (TWELVE, DELTA),
+    (DELTA, TWELVE, blend((product((2, 24)), 1)), blend((total(12, 1, 1, 2), 1))),
     tuple([blend((total(2, 1, 1, t), 1)) for t in (2, 4, 8, 3, 6, 12)]),
     (blend((total(2, 1, 1, 11), 5)), blend((product((1, 2), (11, 2)), 1))),
     tuple([blend((total(1, -4, 1, t), (1, t))) for t in (1, 2, 3, 6)]),
     (blend((total(3, -4, 1), 1)), blend((total(3, 1, -4), 1)), blend((product((4, 6)), 1))),
     (blend((total(2, 5, 1), 1)), blend((total(2, 1, 5), 1)), blend((product((1, 5), (5, -1)), 1))),
     (blend((form(THREE), 1)), blend((total(1, -3, 1), 1)), blend((total(1, -3, 1, 3), (-7, 2)))),
-    tuple([blend((total(4, 1, 1, t), 1)) for t in (1, 2, 3, 4, 6, 12)]),
-    (blend((product(), 1)),),
-    tuple([blend((total(24, 1, 1, t), 1)) for t in (1, 2)]) + (blend((product((1, 48)), 1)), blend((product((1, 24), (2, 24)), 3))),
+    tuple([blend((total(4, 1, 1, t), 1)) for t in (1, 2, 3, 4, 6, 12)]), (blend((product(), 1)),),
+    tuple([blend((total(24, 1, 1, t), 1)) for t in (1, 2)]) + (blend((product((1, 48)), 1)),
+                                                               blend((product((1, 24), (2, 24)), 3))),
 )
 
 
@@ -66,7 +67,9 @@ def told_holds(blended, blends, thing):
     items = thing[1]
     if thing[0] == "sum" and len(items) == len(rows):
         for item in items:
-            if not isinstance(item, tuple) or len(item) != 2 or not is_int(item[0]) or not is_int(item[1]) or item[1] < 1:
+            if not isinstance(item, tuple) or len(item) != 2 or not is_int(item[0]) or not is_int(item[1]):
+                return False
+            if item[1] < 1:
                 return False
         return own == [sum([Fraction(*item) * term for item, term in zip(items, terms)]) for terms in zip(*rows)]
     if thing[0] == "not" and len(items) == len(own) and all(is_int(item) for item in items):
@@ -90,7 +93,7 @@ def drawn_cases():
     maker = random.Random(81)
     found = []
     for some in POOL.values():
-        smooth = [piece for piece in some if is_told_smooth(((piece, ONE),)) and told_blend_facts(((piece, ONE),))[1] < 25]
+        smooth = [piece for piece in some if is_told_smooth(((piece, ONE),)) and told_facts(piece)[1] < 25]
         smooth = [piece for piece in smooth if piece[0] != "form" or len(piece[1]) <= 4]
         for _ in range(7 if len(smooth) > 1 else 0):
             blends = tuple([blend((maker.choice(smooth), told_number(maker))) for _ in range(maker.randint(1, 6))])
@@ -160,7 +163,8 @@ class WithinTest(CallCase):
             word, numbers = judge_within(own, blends)
             rows = told_rows(own, blends, 150 if own[0][0][0] != "form" else 60)
             for at in range(len(rows[0])):
-                self.assertEqual(rows[0][at], sum([Fraction(*number) * row[at] for number, row in zip(numbers, rows[1:])]))
+                made = sum([Fraction(*number) * row[at] for number, row in zip(numbers, rows[1:])])
+                self.assertEqual(rows[0][at], made)
 
     def test_by_chance(self):
         kinds = {"sum": 0, "not": 0}
@@ -185,7 +189,8 @@ class WithinTest(CallCase):
         double = scaled(SUMS[0], (2, 1))
         blends = (SUMS[0], SUMS[0], double, SUMS[1])
         self.check_certificate(EISEN, blends, judge_within(EISEN, blends))
-        for numbers in (((240, 1), (0, 1), (0, 1), (0, 5)), ((0, 1), (240, 1), (0, 1), (0, 1)), ((0, 1), (0, 1), (120, 1), (0, 1)),
+        for numbers in (((240, 1), (0, 1), (0, 1), (0, 5)), ((0, 1), (240, 1), (0, 1), (0, 1)),
+                        ((0, 1), (0, 1), (120, 1), (0, 1)),
                         ((0, 7), (-60, 1), (300, 2), (0, 1)), ((80, 1), (80, 1), (40, 1), (0, 1))):
             self.gives(True, within_holds, EISEN, blends, ("sum", numbers))
         self.gives(False, within_holds, EISEN, blends, ("sum", ((240, 1), (240, 1), (0, 1), (0, 1))))
@@ -228,7 +233,8 @@ class WithinTest(CallCase):
             told = judge_within(own, blends)
             for thing in spoiled(told):
                 self.gives(told_holds(own, blends, thing), within_holds, own, blends, thing)
-            for thing in NO_BLENDS[:60] + (None, (), ("sum",), ("not",), ("sum", None), ("not", None), ("sum", ()), ("not", ())):
+            for thing in NO_BLENDS[:60] + (None, (), ("sum",), ("not",), ("sum", None), ("not", None), ("sum", ()),
+                                           ("not", ())):
                 self.gives(False, within_holds, own, blends, thing)
             self.gives(True, within_holds, own, blends, told)
 
@@ -277,7 +283,8 @@ class ErrorTest(CallCase):
             self.refused(BadBlends, (thing,), EIGHT, (thing,))
             self.refused(BadBlends, SUMS + (thing,), DELTA, SUMS + (thing,))
             self.refused(BadBlends, (thing,) + SUMS, POLE, (thing,) + SUMS)
-        for thing in (None, 1, "sum", list(SUMS), {}, EIGHT, SUMS[0], (SUMS,), ((),), SUMS * 5, SUMS[0][0], dict(enumerate(SUMS))):
+        for thing in (None, 1, "sum", list(SUMS), {}, EIGHT, SUMS[0], (SUMS,), ((),), SUMS * 5, SUMS[0][0],
+                      dict(enumerate(SUMS))):
             self.refused(BadBlends, thing, EIGHT, thing)
             self.refused(BadBlends, thing, DELTA, thing)
         for thing in spoiled(SUMS[:2]):
